@@ -1,0 +1,233 @@
+package depot_test
+
+import (
+	"math/rand"
+	"reflect"
+	"strings"
+	"testing"
+
+	"depot/api"
+	"depot/depot"
+)
+
+// The signatures of all calls: this file does not compile if one of them changes.
+var (
+	_ func(string) (api.Instance, int, api.Errno)       = depot.Parse
+	_ func(api.Instance) (string, api.Errno)            = depot.Print
+	_ func(string) ([][]int, api.Errno)                 = depot.Ways
+	_ func(string, string) (int, []int, api.Errno)      = depot.Judge
+	_ func(string, string) (string, int, api.Errno)     = depot.Improve
+	_ func([][]int) (api.Match, api.Errno)              = depot.Assign
+	_ func(string, string, string) ([][]int, api.Errno) = depot.Cells
+	_ func(string) ([]api.Node, int, api.Errno)         = depot.Read
+	_ func([]api.Node) (string, api.Errno)              = depot.Write
+	_ func(string, string, string) (int, api.Errno)     = depot.Check
+	_ func(string, int) (api.Answer, api.Errno)         = depot.Solve
+)
+
+// wildTexts are texts of all lengths, of few bytes and of all bytes.
+func wildTexts(r *rand.Rand) []string {
+	list := []string{"", "\x00", "\xff\xfe", strings.Repeat("\n", 2000), strings.Repeat("\n", 2001), strings.Repeat(" ", 1000000), strings.Repeat("D", 2000), strings.Repeat("0 ", 1000), "D 1 5 20 2 0" + strings.Repeat(" 0", 900)}
+	for i := range 20000 {
+		raw := make([]byte, r.Intn(60))
+		for k := range raw {
+			raw[k] = byte(r.Intn(256))
+			if i%2 == 0 {
+				raw[k] = "DSR 01\n"[r.Intn(7)]
+			}
+		}
+		list = append(list, string(raw), "D 3 9 9 2 1\n"+string(raw), textB+string(raw))
+	}
+	return list
+}
+
+func TestWildTexts(t *testing.T) {
+	for _, text := range wildTexts(rand.New(rand.NewSource(1))) {
+		x, line, fault := depot.Parse(text)
+		wantX, wantLine, wantFault := slowParse(text)
+		if line != wantLine || fault != wantFault || !same(x, wantX) {
+			t.Fatalf("P1, P3: Parse(%.80q) = %+v, %d, %d, want %+v, %d, %d", text, x, line, fault, wantX, wantLine, wantFault)
+		}
+		rows, fault := depot.Ways(text)
+		if fault != wantFault || (fault != api.OK && len(rows) != 0) || (fault == api.OK && len(rows) != len(x.Stops)+1) {
+			t.Fatalf("P1, P5: Ways(%.80q) = %v, %d, want %d", text, rows, fault, wantFault)
+		}
+	}
+}
+
+func TestWildInstances(t *testing.T) {
+	r := rand.New(rand.NewSource(2))
+	numbers := []int{minInt, minInt + 1, -10000, -1, 0, 1, 2, 3, 4, 11, 12, 13, 10000, 10001, maxInt - 1, maxInt}
+	wild := func() int { return numbers[r.Intn(len(numbers))] }
+	for range 20000 {
+		x := api.Instance{Vans: wild(), Load: wild(), Close: wild(), Nodes: wild(), Home: wild(), Stops: make([]api.Stop, r.Intn(10)), Roads: make([]api.Road, r.Intn(45))}
+		for i := range x.Stops {
+			x.Stops[i] = api.Stop{Node: wild(), Want: wild(), From: wild(), Till: wild(), Stay: wild()}
+		}
+		for i := range x.Roads {
+			x.Roads[i] = api.Road{A: wild(), B: wild(), Len: wild()}
+		}
+		text, fault := depot.Print(x)
+		many := len(x.Stops) > 7 || len(x.Roads) > 40
+		if many != (fault == api.ErrMany) || (fault != api.OK && text != "") {
+			t.Fatalf("P1, P4: Print(%+v) = %q, %d", x, text, fault)
+		}
+		if fault == api.OK {
+			if y, _, again := depot.Parse(text); again != api.OK || !same(x, y) {
+				t.Fatalf("P4: Parse of Print(%+v) = %+v, %d", x, y, again)
+			}
+		}
+	}
+}
+
+// Where several errors apply, the answer is the one named first.
+func TestFirstErrorIsTold(t *testing.T) {
+	if _, line, fault := depot.Parse("S 9 x" + strings.Repeat(" ", 2000)); fault != api.ErrLong || line != 0 {
+		t.Errorf("P1: long and no form: %d, %d", line, fault)
+	}
+	eighth := "D 1 5 20 2 0\n" + strings.Repeat("S 0 0 0 0 0\n", 7)
+	if _, line, fault := depot.Parse(eighth + "S 99999 99999 9 8 x"); fault != api.ErrForm || line != 9 {
+		t.Errorf("P1: no form, too many and past a bound: %d, %d", line, fault)
+	}
+	if _, line, fault := depot.Parse(eighth + "S 99999 99999 9 8 0"); fault != api.ErrMany || line != 9 {
+		t.Errorf("P1: too many and past a bound: %d, %d", line, fault)
+	}
+	if _, fault := depot.Print(api.Instance{Vans: -1, Nodes: 99, Stops: make([]api.Stop, 8)}); fault != api.ErrMany {
+		t.Errorf("P1: too many and past a bound: %d", fault)
+	}
+}
+
+// With an error nothing of what stood ahead of it is told.
+func TestErrorsComeAlone(t *testing.T) {
+	for _, text := range []string{textA + "x", textA + "D 2 10 100 4 0", textA + "R 0 4 1", textA + strings.Repeat("S 0 0 0 0 0\n", 5), textA + strings.Repeat(" ", 2000)} {
+		x, _, fault := depot.Parse(text)
+		if fault == api.OK || !same(x, api.Instance{}) {
+			t.Errorf("P1: Parse(%.200q) = %+v, %d", text, x, fault)
+		}
+		rows, fault := depot.Ways(text)
+		if fault == api.OK || len(rows) != 0 {
+			t.Errorf("P1: Ways(%.200q) = %v, %d", text, rows, fault)
+		}
+	}
+	x := instanceA()
+	x.Roads[7].Len = 10001
+	if text, fault := depot.Print(x); fault != api.ErrBound || text != "" {
+		t.Errorf("P1: Print = %q, %d", text, fault)
+	}
+}
+
+// scribble writes into the lists of x and into all of their spare room.
+func scribble(x api.Instance) {
+	stops := x.Stops[:cap(x.Stops)]
+	for i := range stops {
+		stops[i] = api.Stop{Node: 77, Want: 77, From: 77, Till: 77, Stay: 77}
+	}
+	roads := x.Roads[:cap(x.Roads)]
+	for i := range roads {
+		roads[i] = api.Road{A: 77, B: 77, Len: 77}
+	}
+}
+
+func TestParseAnswersAreTheCallers(t *testing.T) {
+	first, _, _ := depot.Parse(textA)
+	second, _, _ := depot.Parse(textA)
+	scribble(first)
+	if !same(second, instanceA()) {
+		t.Errorf("P2: the other answer of Parse was changed: %+v", second)
+	}
+	third, line, fault := depot.Parse(textA)
+	if fault != api.OK || line != 0 || !same(third, instanceA()) {
+		t.Errorf("P2: a later answer of Parse was changed: %+v", third)
+	}
+	if rows, _ := depot.Ways(textA); !reflect.DeepEqual(rows, slowWays(instanceA())) {
+		t.Errorf("P2: a later answer of Ways was changed: %v", rows)
+	}
+}
+
+func TestWaysAnswersAreTheCallers(t *testing.T) {
+	want := slowWays(instanceA())
+	second, _ := depot.Ways(textA)
+	for i := range want {
+		first, _ := depot.Ways(textA)
+		row := first[i][:cap(first[i])]
+		for k := range row {
+			row[k] = 77
+		}
+		for k := range first {
+			if k != i && !reflect.DeepEqual(first[k], want[k]) {
+				t.Errorf("P2: writing into row %d changed row %d: %v", i, k, first[k])
+			}
+		}
+	}
+	first, _ := depot.Ways(textA)
+	spare := first[:cap(first)]
+	for i := range spare {
+		spare[i] = []int{77}
+	}
+	if !reflect.DeepEqual(second, want) {
+		t.Errorf("P2: the other answer of Ways was changed: %v", second)
+	}
+	if third, _ := depot.Ways(textA); !reflect.DeepEqual(third, want) {
+		t.Errorf("P2: a later answer of Ways was changed: %v", third)
+	}
+}
+
+// Where two stops share a node, or one the depot's, their rows are alike but not one list.
+func TestWaysOfOneNodeAreSeveralLists(t *testing.T) {
+	rows, _ := depot.Ways("D 1 0 0 2 0\nS 0 0 0 0 0\nS 1 0 0 0 0\nS 1 0 0 0 0\nR 0 1 4")
+	rows[0][2] = 77
+	rows[2][0] = 78
+	if want := [][]int{{0, 0, 77, 4}, {0, 0, 4, 4}, {78, -1, 0, 0}, {-1, -1, 0, 0}}; !reflect.DeepEqual(rows, want) {
+		t.Errorf("P2: rows = %v, want %v", rows, want)
+	}
+}
+
+func TestPrintLeavesWhatIsHandedIn(t *testing.T) {
+	for _, last := range []int{4, 10001} {
+		stops := []api.Stop{{Node: 1, Want: 3, Till: 20}, {Node: 70}, {Node: 71}}
+		roads := []api.Road{{A: 0, B: 1, Len: 4}, {A: 1, B: 0, Len: last}, {A: 72}, {A: 73}}
+		stopsBefore := append([]api.Stop{}, stops...)
+		roadsBefore := append([]api.Road{}, roads...)
+		x := instanceB()
+		x.Stops = stops[:1]
+		x.Roads = roads[:2]
+		depot.Print(x)
+		if !reflect.DeepEqual(stops, stopsBefore) || !reflect.DeepEqual(roads, roadsBefore) {
+			t.Errorf("P2: Print wrote into its argument: %+v, %+v", stops, roads)
+		}
+	}
+}
+
+func TestPrintKeepsNothing(t *testing.T) {
+	x := instanceB()
+	first, _ := depot.Print(x)
+	x.Stops[0].Want = 5
+	x.Roads[0].Len = 9
+	second, _ := depot.Print(x)
+	if first != textB || second != "D 1 5 20 2 0\nS 1 5 0 20 0\nR 0 1 9\nR 1 0 4\n" {
+		t.Errorf("P2: Print = %q, then %q", first, second)
+	}
+	x.Load = 10001
+	depot.Print(x)
+	if again, fault := depot.Print(instanceB()); again != textB || fault != api.OK {
+		t.Errorf("P2: Print behind an error = %q, %d", again, fault)
+	}
+}
+
+// The same arguments get the same answer, whatever was asked between.
+func TestAnswersHangOnArgumentsAlone(t *testing.T) {
+	r := rand.New(rand.NewSource(6))
+	texts := []string{textA, textB, textD, "", "x", textA + "x", textB + "R 9 9 9", "D 1 0 0 1 0"}
+	for range 200 {
+		text := texts[r.Intn(len(texts))]
+		x, line, fault := depot.Parse(text)
+		wantX, wantLine, wantFault := slowParse(text)
+		if line != wantLine || fault != wantFault || !same(x, wantX) {
+			t.Fatalf("P2: Parse(%q) = %+v, %d, %d", text, x, line, fault)
+		}
+		rows, fault := depot.Ways(text)
+		if fault != wantFault || (fault == api.OK && !reflect.DeepEqual(rows, slowWays(wantX))) {
+			t.Fatalf("P2: Ways(%q) = %v, %d", text, rows, fault)
+		}
+	}
+}

