@@ -2,7 +2,7 @@ package instance
 
 import "depot/api"
 
-// Fault tells what keeps x from being an instance; OK if nothing does. Parse and Print share it, so that what the one takes the other gives.
+// Fault tells what keeps x from being an instance; OK if nothing does. Parse asks the same of each line, by the functions below, so that what Print writes Parse takes.
 func Fault(x api.Instance) api.Errno {
 	if len(x.Stops) > api.MaxStops || len(x.Roads) > api.MaxRoads {
 		return api.ErrMany
