@@ -1,6 +1,7 @@
 package depot_test
 
 import (
+	"fmt"
 	"math/rand"
 	"reflect"
 	"strings"
@@ -51,6 +52,34 @@ func TestWildTexts(t *testing.T) {
 		rows, fault := depot.Ways(text)
 		if fault != wantFault || (fault != api.OK && len(rows) != 0) || (fault == api.OK && len(rows) != len(x.Stops)+1) {
 			t.Fatalf("P1, P5: Ways(%.80q) = %v, %d, want %d", text, rows, fault, wantFault)
+		}
+	}
+}
+
+// Plans of all bytes, for texts that are instances and for texts that are none.
+func TestWildPlans(t *testing.T) {
+	r := rand.New(rand.NewSource(3))
+	for _, text := range wildTexts(r) {
+		raw := make([]byte, r.Intn(10))
+		for k := range raw {
+			raw[k] = byte(r.Intn(256))
+			if len(text)%3 > 0 {
+				raw[k] = "01/2"[r.Intn(4)]
+			}
+		}
+		plan := string(raw)
+		x, _, wantFault := slowParse(text)
+		wantCost, wantStarts := 0, []int(nil)
+		if wantFault == api.OK {
+			wantCost, wantStarts, wantFault = slowJudge(x, plan)
+		}
+		cost, starts, fault := depot.Judge(text, plan)
+		if cost != wantCost || !alike(starts, wantStarts) || fault != wantFault {
+			t.Fatalf("P1, P6: Judge(%.80q, %q) = %d, %v, %d, want %d, %v, %d", text, plan, cost, starts, fault, wantCost, wantStarts, wantFault)
+		}
+		better, cost, fault := depot.Improve(text, plan)
+		if fault != wantFault || cost > wantCost || (fault != api.OK && (better != "" || cost != 0)) {
+			t.Fatalf("P1, P7: Improve(%.80q, %q) = %q, %d, %d, want %d", text, plan, better, cost, fault, wantFault)
 		}
 	}
 }
@@ -107,6 +136,14 @@ func TestErrorsComeAlone(t *testing.T) {
 		rows, fault := depot.Ways(text)
 		if fault == api.OK || len(rows) != 0 {
 			t.Errorf("P1: Ways(%.200q) = %v, %d", text, rows, fault)
+		}
+		cost, starts, fault := depot.Judge(text, "12/3")
+		if fault == api.OK || cost != 0 || len(starts) != 0 {
+			t.Errorf("P1: Judge(%.200q) = %d, %v, %d", text, cost, starts, fault)
+		}
+		plan, cost, fault := depot.Improve(text, "12/3")
+		if fault == api.OK || cost != 0 || plan != "" {
+			t.Errorf("P1: Improve(%.200q) = %q, %d, %d", text, plan, cost, fault)
 		}
 	}
 	x := instanceA()
@@ -172,6 +209,25 @@ func TestWaysAnswersAreTheCallers(t *testing.T) {
 	}
 }
 
+func TestJudgeAnswersAreTheCallers(t *testing.T) {
+	want := []int{10, 20, 20}
+	_, first, _ := depot.Judge(textA, "12/3")
+	_, second, _ := depot.Judge(textA, "12/3")
+	spare := first[:cap(first)]
+	for i := range spare {
+		spare[i] = 77
+	}
+	if !reflect.DeepEqual(second, want) {
+		t.Errorf("P2: the other answer of Judge was changed: %v", second)
+	}
+	if cost, third, fault := depot.Judge(textA, "12/3"); cost != 70 || fault != api.OK || !reflect.DeepEqual(third, want) {
+		t.Errorf("P2: a later answer of Judge was changed: %d, %v, %d", cost, third, fault)
+	}
+	if plan, cost, fault := depot.Improve(textA, "13/2"); cost != 70 || fault != api.OK {
+		t.Errorf("P2: a later answer of Improve was changed: %q, %d, %d", plan, cost, fault)
+	}
+}
+
 // Where two stops share a node, or one the depot's, their rows are alike but not one list.
 func TestWaysOfOneNodeAreSeveralLists(t *testing.T) {
 	rows, _ := depot.Ways("D 1 0 0 2 0\nS 0 0 0 0 0\nS 1 0 0 0 0\nS 1 0 0 0 0\nR 0 1 4")
@@ -229,5 +285,22 @@ func TestAnswersHangOnArgumentsAlone(t *testing.T) {
 		if fault != wantFault || (fault == api.OK && !reflect.DeepEqual(rows, slowWays(wantX))) {
 			t.Fatalf("P2: Ways(%q) = %v, %d", text, rows, fault)
 		}
+	}
+}
+
+func TestVerdictsHangOnArgumentsAlone(t *testing.T) {
+	r := rand.New(rand.NewSource(7))
+	texts := []string{textA, textB, textC, textD, star, "", "D 1 0 0 1 0"}
+	plans := []string{"12/3", "13/2", "31/2", "1", "", "1/2/3", "1/23", "x", "1234567", "7531/642", "1357246"}
+	told := map[[2]string]string{}
+	for range 2000 {
+		text, plan := texts[r.Intn(len(texts))], plans[r.Intn(len(plans))]
+		cost, starts, fault := depot.Judge(text, plan)
+		better, less, faultToo := depot.Improve(text, plan)
+		answer := fmt.Sprint(cost, starts, fault, better, less, faultToo)
+		if before, known := told[[2]string{text, plan}]; known && before != answer {
+			t.Fatalf("P2: Judge and Improve of %q, %q: %s, before %s", text, plan, answer, before)
+		}
+		told[[2]string{text, plan}] = answer
 	}
 }

@@ -4,6 +4,7 @@ package depot
 import (
 	"depot/api"
 	"depot/instance"
+	"depot/rounds"
 	"depot/ways"
 )
 
@@ -23,10 +24,22 @@ func Ways(text string) ([][]int, api.Errno) {
 }
 
 // Judge tells what a plan costs and when it is where (P6).
-func Judge(text string, plan string) (int, []int, api.Errno) { return 0, nil, api.OK }
+func Judge(text string, plan string) (int, []int, api.Errno) {
+	area, fault := rounds.Open(text)
+	if fault != api.OK {
+		return 0, nil, fault
+	}
+	return area.Judge(plan)
+}
 
 // Improve makes a plan cheaper by moves of one stop (P7).
-func Improve(text string, plan string) (string, int, api.Errno) { return "", 0, api.OK }
+func Improve(text string, plan string) (string, int, api.Errno) {
+	area, fault := rounds.Open(text)
+	if fault != api.OK {
+		return "", 0, fault
+	}
+	return area.Improve(plan)
+}
 
 // Assign gives each row a column of its own, for the least sum (P8).
 func Assign(cells [][]int) (api.Match, api.Errno) { return api.Match{}, api.OK }

@@ -9,10 +9,11 @@ import (
 	"depot/api"
 )
 
-// The texts A, B and D of the document's examples.
+// The texts A to D of the document's examples.
 const (
 	textA = "D 2 10 100 4 0\nS 1 4 0 50 5\nS 2 5 10 60 5\nS 3 6 0 90 5\nR 0 1 10\nR 1 0 10\nR 1 2 5\nR 2 1 5\nR 2 3 7\nR 3 2 7\nR 3 0 20\nR 0 3 20\n"
 	textB = "D 1 5 20 2 0\nS 1 3 0 20 0\nR 0 1 4\nR 1 0 4\n"
+	textC = "D 1 5 20 2 0\nS 1 6 0 20 0\nR 0 1 4\nR 1 0 4\n"
 	textD = "D 1 5 20 2 0\nS 1 3 0 20 0\nR 0 1 4\n"
 )
 
