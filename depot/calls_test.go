@@ -145,6 +145,10 @@ func TestErrorsComeAlone(t *testing.T) {
 		if fault == api.OK || cost != 0 || plan != "" {
 			t.Errorf("P1: Improve(%.200q) = %q, %d, %d", text, plan, cost, fault)
 		}
+		cells, fault := depot.Cells(text, "12", "03")
+		if fault == api.OK || len(cells) != 0 {
+			t.Errorf("P1: Cells(%.200q) = %v, %d", text, cells, fault)
+		}
 	}
 	x := instanceA()
 	x.Roads[7].Len = 10001
@@ -302,5 +306,161 @@ func TestVerdictsHangOnArgumentsAlone(t *testing.T) {
 			t.Fatalf("P2: Judge and Improve of %q, %q: %s, before %s", text, plan, answer, before)
 		}
 		told[[2]string{text, plan}] = answer
+	}
+}
+
+// lists are all lists of a match, with their spare room.
+func lists(m api.Match) [][]int {
+	return [][]int{m.Column[:cap(m.Column)], m.U[:cap(m.U)], m.V[:cap(m.V)], m.Rows[:cap(m.Rows)]}
+}
+
+var squares = [][][]int{
+	{{4, 1}, {2, 3}}, {{-1, 5}, {-1, 7}}, {{5, -1}, {-1, -1}}, {{3}}, {{-1}},
+	{{9, 2, 7}, {6, 4, 3}, {5, 8, 1}}, {{7, -1, -1}, {7, -1, -1}, {0, 0, 0}}, {{1, 2, 3}, {2, 4, 6}, {3, 6, 9}},
+}
+
+func copyOf(cells [][]int) [][]int {
+	var list [][]int
+	for _, row := range cells {
+		list = append(list, append([]int{}, row...))
+	}
+	return list
+}
+
+// Rows are cut from the midst of longer lists, and so is the list of rows: nothing of all that may change.
+func TestAssignLeavesWhatIsHandedIn(t *testing.T) {
+	wrong := [][][]int{{{1, 2}, {3}}, {{1, 2}, {3, 200001}}, {{1, 2, 3}}, {{-2, 1}, {1, 1}}}
+	for _, cells := range append(wrong, squares...) {
+		var rows [][]int
+		for _, row := range cells {
+			rows = append(rows, append(append([]int{}, row...), 70, 71, 72))
+		}
+		rows = append(rows, []int{73}, []int{74, 75})
+		before := copyOf(rows)
+		handed := make([][]int, len(rows))
+		for i, row := range rows {
+			handed[i] = row
+			if i < len(cells) {
+				handed[i] = row[:len(cells[i])]
+			}
+		}
+		depot.Assign(handed[:len(cells)])
+		for i, row := range handed {
+			if &row[0] != &rows[i][0] || i < len(cells) && len(row) != len(cells[i]) {
+				t.Errorf("P2: Assign(%v) wrote into the list of rows: %v", cells, handed)
+			}
+		}
+		if !reflect.DeepEqual(rows, before) {
+			t.Errorf("P2: Assign(%v) wrote into a row: %v, before %v", cells, rows, before)
+		}
+	}
+}
+
+func TestAssignAnswersAreTheCallers(t *testing.T) {
+	for _, cells := range squares {
+		handed := copyOf(cells)
+		want, _ := depot.Assign(copyOf(cells))
+		for k := range 4 {
+			first, _ := depot.Assign(handed)
+			second, _ := depot.Assign(handed)
+			list := lists(first)[k]
+			for i := range list {
+				list[i] = 77
+			}
+			for i, other := range [][]int{first.Column, first.U, first.V, first.Rows} {
+				if i != k && !alike(other, [][]int{want.Column, want.U, want.V, want.Rows}[i]) {
+					t.Errorf("P2: Assign(%v): writing into list %d changed list %d: %v", cells, k, i, other)
+				}
+			}
+			third, _ := depot.Assign(handed)
+			if !reflect.DeepEqual(second, want) || !reflect.DeepEqual(third, want) || !reflect.DeepEqual(handed, cells) {
+				t.Errorf("P2: Assign(%v): writing into list %d changed %+v, %+v or %v", cells, k, second, third, handed)
+			}
+		}
+	}
+}
+
+func TestAssignKeepsNothing(t *testing.T) {
+	for _, cells := range squares {
+		handed := copyOf(cells)
+		want, _ := depot.Assign(copyOf(cells))
+		first, _ := depot.Assign(handed)
+		for _, row := range handed {
+			for j := range row {
+				row[j] = 200001
+			}
+		}
+		if !reflect.DeepEqual(first, want) {
+			t.Errorf("P2: writing into the cells %v changed the answer: %+v, want %+v", cells, first, want)
+		}
+		if _, fault := depot.Assign(handed); fault != api.ErrBound {
+			t.Errorf("P2: Assign(%v) = %d", handed, fault)
+		}
+		if again, fault := depot.Assign(cells); fault != api.OK || !reflect.DeepEqual(again, want) {
+			t.Errorf("P2: Assign(%v) behind an error = %+v, %d, want %+v", cells, again, fault, want)
+		}
+	}
+}
+
+// One list may be handed in as several rows.
+func TestAssignOfOneListTwice(t *testing.T) {
+	row := []int{3, 9, 200000, -1}
+	checkAssign(t, [][]int{row, row, row, row})
+	checkAssign(t, [][]int{row, row, {1, 1, 1, 1}, row})
+	full := []int{3, 9, 200000}
+	checkAssign(t, [][]int{full, full, full})
+	if !reflect.DeepEqual(row, []int{3, 9, 200000, -1}) || !reflect.DeepEqual(full, []int{3, 9, 200000}) {
+		t.Errorf("P2: Assign wrote into a row: %v, %v", row, full)
+	}
+}
+
+// The rows of the vans are alike, and yet each is a list of its own.
+func TestCellsAnswersAreTheCallers(t *testing.T) {
+	want, _ := slowCells(instanceA(), "12", "03")
+	second, _ := depot.Cells(textA, "12", "03")
+	for i := range want {
+		first, _ := depot.Cells(textA, "12", "03")
+		row := first[i][:cap(first[i])]
+		for k := range row {
+			row[k] = 77
+		}
+		for k := range first {
+			if k != i && !reflect.DeepEqual(first[k], want[k]) {
+				t.Errorf("P2: writing into row %d changed row %d: %v", i, k, first[k])
+			}
+		}
+	}
+	first, _ := depot.Cells(textA, "12", "03")
+	spare := first[:cap(first)]
+	for i := range spare {
+		spare[i] = []int{77}
+	}
+	if !reflect.DeepEqual(second, want) {
+		t.Errorf("P2: the other answer of Cells was changed: %v", second)
+	}
+	if third, _ := depot.Cells(textA, "12", "03"); !reflect.DeepEqual(third, want) {
+		t.Errorf("P2: a later answer of Cells was changed: %v", third)
+	}
+	plain, _ := slowCells(instanceA(), "", "")
+	if fourth, _ := depot.Cells(textA, "", ""); !reflect.DeepEqual(fourth, plain) {
+		t.Errorf("P2: arcs of an earlier call were kept: %v", fourth)
+	}
+}
+
+func TestSquaresHangOnArgumentsAlone(t *testing.T) {
+	r := rand.New(rand.NewSource(15))
+	texts := []string{textA, textB, textD, star, "", "D 1 0 0 1 0"}
+	arcs := []string{"", "01", "10", "12", "0112", "2130", "00", "x", "57"}
+	told := map[string]string{}
+	for range 3000 {
+		text, forced, barred := texts[r.Intn(len(texts))], arcs[r.Intn(len(arcs))], arcs[r.Intn(len(arcs))]
+		cells, fault := depot.Cells(text, forced, barred)
+		m, faultToo := depot.Assign(cells)
+		depot.Assign(squares[r.Intn(len(squares))])
+		key, answer := fmt.Sprintf("%q %q %q", text, forced, barred), fmt.Sprint(cells, fault, m, faultToo)
+		if before, known := told[key]; known && before != answer {
+			t.Fatalf("P2: Cells(%s), and Assign of it: %s, before %s", key, answer, before)
+		}
+		told[key] = answer
 	}
 }

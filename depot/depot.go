@@ -3,6 +3,8 @@ package depot
 
 import (
 	"depot/api"
+	"depot/assign"
+	"depot/cells"
 	"depot/instance"
 	"depot/rounds"
 	"depot/ways"
@@ -42,10 +44,21 @@ func Improve(text string, plan string) (string, int, api.Errno) {
 }
 
 // Assign gives each row a column of its own, for the least sum (P8).
-func Assign(cells [][]int) (api.Match, api.Errno) { return api.Match{}, api.OK }
+func Assign(cells [][]int) (api.Match, api.Errno) { return assign.Best(cells) }
 
 // Cells makes the square of cells for some arcs that are forced and some that are barred (P9).
-func Cells(text string, forced string, barred string) ([][]int, api.Errno) { return nil, api.OK }
+func Cells(text string, forced string, barred string) ([][]int, api.Errno) {
+	x, _, fault := instance.Parse(text)
+	if fault != api.OK {
+		return nil, fault
+	}
+	arcs := cells.Open(x)
+	fault = arcs.Read(forced, barred)
+	if fault != api.OK {
+		return nil, fault
+	}
+	return arcs.Square(), api.OK
+}
 
 // Read reads the text of a tree (P10).
 func Read(tree string) ([]api.Node, int, api.Errno) { return nil, 0, api.OK }
