@@ -11,9 +11,9 @@ const depot = 0
 
 // What is said of an arc.
 const (
-	free   = 0
-	forced = 1
-	barred = 2
+	Free   = 0
+	Forced = 1
+	Barred = 2
 )
 
 // Arcs are the arcs of an instance: the way along each, and what is said of it.
@@ -34,11 +34,11 @@ func Open(x api.Instance) Arcs {
 
 // Read marks the arcs of two texts. A text without fault has each arc once, so what comes behind the first fault is not read, however long it is.
 func (a *Arcs) Read(force string, bar string) api.Errno {
-	fault := a.mark(force, forced)
+	fault := a.mark(force, Forced)
 	if fault != api.OK {
 		return fault
 	}
-	return a.mark(bar, barred)
+	return a.mark(bar, Barred)
 }
 
 func (a *Arcs) mark(text string, what int) api.Errno {
@@ -46,20 +46,35 @@ func (a *Arcs) mark(text string, what int) api.Errno {
 		return api.ErrArcs
 	}
 	for i := 0; i+1 < len(text); i += 2 {
-		from := a.site(text[i])
-		to := a.site(text[i+1])
-		if from == api.None || to == api.None || from == to || a.said[from][to] != free {
+		from := int(text[i]) - '0'
+		to := int(text[i+1]) - '0'
+		if a.Said(from, to) != Free {
 			return api.ErrArcs
 		}
-		a.said[from][to] = what
+		a.Say(from, to, what)
 	}
 	return api.OK
 }
 
-// site tells the site that a byte names, or None.
-func (a *Arcs) site(letter byte) int {
-	if letter < '0' || int(letter-'0') >= len(a.far) {
+// isArc tells whether two numbers are sites, different ones.
+func (a *Arcs) isArc(from int, to int) bool {
+	if from < 0 || from >= len(a.far) || to < 0 || to >= len(a.far) {
+		return false
+	}
+	return from != to
+}
+
+// Said tells what is said of an arc; None, if it is none of the instance's: any two numbers may be asked for.
+func (a *Arcs) Said(from int, to int) int {
+	if !a.isArc(from, to) {
 		return api.None
 	}
-	return int(letter - '0')
+	return a.said[from][to]
+}
+
+// Say takes the place of what was said of an arc, if it is one of the instance's.
+func (a *Arcs) Say(from int, to int, what int) {
+	if a.isArc(from, to) {
+		a.said[from][to] = what
+	}
 }

@@ -33,7 +33,7 @@ func (a *Arcs) cell(from int, to int) int {
 	if from == depot && to == depot {
 		return 0
 	}
-	if from == to || a.said[from][to] == barred || a.forcedElsewhere(from, to) {
+	if from == to || a.said[from][to] == Barred || a.forcedElsewhere(from, to) {
 		return api.None
 	}
 	return a.far[from][to]
@@ -42,10 +42,10 @@ func (a *Arcs) cell(from int, to int) int {
 // forcedElsewhere tells whether a van that goes from one site to the other would leave out a forced arc: a stop has one arc in and one out, the depot as many as there are vans.
 func (a *Arcs) forcedElsewhere(from int, to int) bool {
 	for site := 0; site < len(a.far); site++ {
-		if from != depot && site != to && a.said[from][site] == forced {
+		if from != depot && site != to && a.said[from][site] == Forced {
 			return true
 		}
-		if to != depot && site != from && a.said[site][to] == forced {
+		if to != depot && site != from && a.said[site][to] == Forced {
 			return true
 		}
 	}

@@ -464,3 +464,189 @@ func TestSquaresHangOnArgumentsAlone(t *testing.T) {
 		told[key] = answer
 	}
 }
+
+// Trees of all bytes, and of the bytes that trees have, for texts that are instances and for texts that are none.
+func TestWildTrees(t *testing.T) {
+	r := rand.New(rand.NewSource(26))
+	wild := func() string {
+		raw := make([]byte, r.Intn(24))
+		for k := range raw {
+			raw[k] = byte(r.Intn(256))
+			if r.Intn(40) > 0 {
+				raw[k] = "bcdh   0011-\n\n\n"[r.Intn(15)]
+			}
+		}
+		if r.Intn(3) > 0 {
+			return treeText(randomTree(r, r.Intn(4), 3)) + string(raw[:r.Intn(len(raw)+1)/8])
+		}
+		return string(raw)
+	}
+	claims := []string{"none", "none", "1", "12", "12/3", "", "x", "none1", "\x00"}
+	for _, text := range append(wildTexts(r), textA, textB, textC, textD) {
+		tree, claim := wild(), claims[r.Intn(len(claims))]
+		checkRead(t, tree)
+		x, _, wantFault := slowParse(text)
+		wantAt := 0
+		if wantFault == api.OK {
+			wantAt, wantFault = slowCheck(x, claim, tree)
+		}
+		if at, fault := depot.Check(text, claim, tree); at != wantAt || fault != wantFault {
+			t.Fatalf("P1, P11: Check(%.80q, %q, %q) = %d, %d, want %d, %d", text, claim, tree, at, fault, wantAt, wantFault)
+		}
+	}
+}
+
+func TestWildNodes(t *testing.T) {
+	r := rand.New(rand.NewSource(27))
+	numbers := []int{minInt, minInt + 1, -100000001, -100000000, -1, 0, 1, 2, 3, 100000000, 100000001, maxInt - 1, maxInt}
+	kinds := []int{minInt, -1, 0, 1, 2, 3, 4, 4, 4, 5, maxInt}
+	for range 50000 {
+		list := make([]api.Node, r.Intn(4))
+		right := true
+		for i := range list {
+			list[i].Kind = kinds[r.Intn(len(kinds))]
+			right = right && list[i].Kind >= 1 && list[i].Kind <= 4
+			for range r.Intn(4) {
+				n := numbers[r.Intn(len(numbers))]
+				list[i].List = append(list[i].List, n)
+				right = right && n >= -100000000 && n <= 100000000
+			}
+		}
+		want, wantFault := "", api.ErrTree
+		if right {
+			want = treeText(list)
+			_, _, wantFault = slowRead(want)
+		}
+		if wantFault != api.OK {
+			want = ""
+		}
+		if text, fault := depot.Write(list); text != want || fault != wantFault {
+			t.Fatalf("P1, P10: Write(%v) = %q, %d, want %q, %d", list, text, fault, want, wantFault)
+		}
+	}
+}
+
+const treeOfAllKinds = "b 0 1\nb 1 2\nd 1 2 3 4 5 6\nh 0 1 2\nb 2 0\nc 1 2 0\nc 3\n"
+
+// Each node's list is one of its own, and so is the list of nodes.
+func TestReadAnswersAreTheCallers(t *testing.T) {
+	for _, text := range []string{treeOfAllKinds, "b 1 1\nc 1\nc 1\n", "h 1 2 3\n", strings.Repeat("b 4 4\nc 4\n", 50) + "c 4\n"} {
+		want, _, _ := slowRead(text)
+		second, _, _ := depot.Read(text)
+		for i := range want {
+			first, _, _ := depot.Read(text)
+			list := first[i].List[:cap(first[i].List)]
+			for k := range list {
+				list[k] = 77
+			}
+			for k := range first {
+				if k != i && !alike(first[k].List, want[k].List) {
+					t.Errorf("P2: Read(%q): writing into node %d changed node %d: %v", text, i, k, first[k])
+				}
+			}
+		}
+		first, _, _ := depot.Read(text)
+		spare := first[:cap(first)]
+		for i := range spare {
+			spare[i] = node(77, 77)
+		}
+		if !sameNodes(second, want) {
+			t.Errorf("P2: the other answer of Read(%q) was changed: %v", text, second)
+		}
+		if third, line, fault := depot.Read(text); fault != api.OK || line != 0 || !sameNodes(third, want) {
+			t.Errorf("P2: a later answer of Read(%q) was changed: %v", text, third)
+		}
+		if written, fault := depot.Write(second); fault != api.OK || written != text {
+			t.Errorf("P2: a later answer of Write was changed: %q, %d, want %q", written, fault, text)
+		}
+	}
+}
+
+// The nodes and their numbers are cut from the midst of longer lists: nothing of all that may change.
+func TestWriteLeavesWhatIsHandedIn(t *testing.T) {
+	for _, text := range []string{treeOfAllKinds, "c 1\n", "c 1\nc 1\n", "b 0 1\nc 1\n", "d 1 2\nx 5\n"} {
+		var whole []api.Node
+		var numbers, before [][]int
+		for _, line := range strings.SplitAfter(text, "\n") {
+			n, _ := slowNode(line)
+			long := append(append([]int{}, n.List...), 70, 71, 72)
+			numbers = append(numbers, long)
+			before = append(before, append([]int{}, long...))
+			whole = append(whole, node(n.Kind, long[:len(n.List)]...))
+		}
+		kinds := make([]int, len(whole))
+		for i, n := range whole {
+			kinds[i] = n.Kind
+		}
+		depot.Write(whole[:len(whole)-1])
+		for i, n := range whole {
+			if n.Kind != kinds[i] || &n.List[:1][0] != &numbers[i][0] || len(n.List) != len(numbers[i])-3 {
+				t.Errorf("P2: Write wrote into the list of nodes of %q: %v", text, whole)
+			}
+		}
+		if !reflect.DeepEqual(numbers, before) {
+			t.Errorf("P2: Write wrote into the numbers of %q: %v, before %v", text, numbers, before)
+		}
+	}
+}
+
+func TestWriteKeepsNothing(t *testing.T) {
+	list, _, _ := slowRead(treeOfAllKinds)
+	first, _ := depot.Write(list)
+	list[3].List[0] = -5
+	list[6] = node(api.Hall, 9)
+	second, _ := depot.Write(list)
+	if first != treeOfAllKinds || second != "b 0 1\nb 1 2\nd 1 2 3 4 5 6\nh -5 1 2\nb 2 0\nc 1 2 0\nh 9\n" {
+		t.Errorf("P2: Write = %q, then %q", first, second)
+	}
+	depot.Write(list[:3])
+	if again, fault := depot.Write([]api.Node{node(api.Chain, 1)}); again != "c 1\n" || fault != api.OK {
+		t.Errorf("P2: Write behind an error = %q, %d", again, fault)
+	}
+}
+
+// One list may be handed in as the numbers of several nodes.
+func TestWriteOfOneListTwice(t *testing.T) {
+	list := []int{3, -4}
+	if text, fault := depot.Write([]api.Node{{Kind: api.Branch, List: list}, {Kind: api.Duals, List: list}, {Kind: api.Hall, List: list}}); text != "b 3 -4\nd 3 -4\nh 3 -4\n" || fault != api.OK {
+		t.Errorf("P10: Write = %q, %d", text, fault)
+	}
+	if !reflect.DeepEqual(list, []int{3, -4}) {
+		t.Errorf("P2: Write wrote into a list: %v", list)
+	}
+}
+
+// With an error nothing of what stood ahead of it is told.
+func TestTreeErrorsComeAlone(t *testing.T) {
+	for _, more := range []string{"x", "\n", "c 1\n", "c 1", "b 0 1\nc 1\nc 1\n"} {
+		if list, line, fault := depot.Read(treeOfAllKinds + more); fault != api.ErrTree || line != 8 || len(list) != 0 {
+			t.Errorf("P1: Read = %v, %d, %d", list, line, fault)
+		}
+	}
+	list, _, _ := slowRead(treeOfAllKinds)
+	for _, wrong := range [][]api.Node{list[:6], append(list, list...), append(list[:6:6], node(api.Chain, 100000001))} {
+		if text, fault := depot.Write(wrong); fault != api.ErrTree || text != "" {
+			t.Errorf("P1: Write = %q, %d", text, fault)
+		}
+	}
+}
+
+// What the branches of one tree said is not kept for the next.
+func TestTreesHangOnArgumentsAlone(t *testing.T) {
+	r := rand.New(rand.NewSource(28))
+	texts := []string{textA, textB, textC, textD, star, "", "D 1 0 0 1 0"}
+	claims := []string{"none", "12/3", "1", "", "x", "1234567"}
+	trees := []string{"", "c 1\n", "c 0 1\n", "h 0\n", "h 0 1\n", "d 4 0 4 0\n", "d 0 0\n", "b 0 1\nd 4 0 4 0\nh 0 1\n", "b 0 1\nc 0 1\nh 0 1\n", "b 0 1\nb 0 1\nc 1\nc 1\nh 0 1\n", "b 1 0\nc 1\nc 1\n", "b 0 1\nc 1\n", treeOfAllKinds}
+	told := map[[3]string]string{}
+	for range 10000 {
+		key := [3]string{texts[r.Intn(len(texts))], claims[r.Intn(len(claims))], trees[r.Intn(len(trees))]}
+		at, fault := depot.Check(key[0], key[1], key[2])
+		list, line, faultToo := depot.Read(key[2])
+		written, faultThen := depot.Write(list)
+		answer := fmt.Sprint(at, fault, list, line, faultToo, written, faultThen)
+		if before, known := told[key]; known && before != answer {
+			t.Fatalf("P2: Check, Read and Write of %q: %s, before %s", key, answer, before)
+		}
+		told[key] = answer
+	}
+}

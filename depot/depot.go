@@ -5,8 +5,10 @@ import (
 	"depot/api"
 	"depot/assign"
 	"depot/cells"
+	"depot/grounds"
 	"depot/instance"
 	"depot/rounds"
+	"depot/trees"
 	"depot/ways"
 )
 
@@ -61,13 +63,15 @@ func Cells(text string, forced string, barred string) ([][]int, api.Errno) {
 }
 
 // Read reads the text of a tree (P10).
-func Read(tree string) ([]api.Node, int, api.Errno) { return nil, 0, api.OK }
+func Read(tree string) ([]api.Node, int, api.Errno) { return trees.Read(tree) }
 
 // Write writes the text of a tree (P10).
-func Write(l []api.Node) (string, api.Errno) { return "", api.OK }
+func Write(l []api.Node) (string, api.Errno) { return trees.Write(l) }
 
 // Check tells whether a tree shows a claim (P11).
-func Check(text string, claim string, tree string) (int, api.Errno) { return 0, api.OK }
+func Check(text string, claim string, tree string) (int, api.Errno) {
+	return grounds.Check(text, claim, tree)
+}
 
 // Solve finds the cheapest plan, or that there is none, and the tree that shows it (P12).
 func Solve(text string, budget int) (api.Answer, api.Errno) { return api.Answer{}, api.OK }

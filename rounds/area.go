@@ -16,12 +16,20 @@ type Area struct {
 	far [][]int
 }
 
-// Open reads the text of an instance. The fields of an Area are set here alone, so the ways are those of all its sites.
+// Open reads the text of an instance.
 func Open(text string) (Area, api.Errno) {
 	x, _, fault := instance.Parse(text)
 	if fault != api.OK {
 		return Area{}, fault
 	}
+	return Of(x), api.OK
+}
+
+// Of is the area of an instance; one without stops and vans, if x is none. The fields of an Area are set here alone, so the ways are those of all its sites.
+func Of(x api.Instance) Area {
 	far := ways.Between(x)
-	return Area{x: x, far: far}, api.OK
+	if len(far) == 0 {
+		return Area{}
+	}
+	return Area{x: x, far: far}
 }

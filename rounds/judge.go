@@ -64,14 +64,19 @@ func (a *Area) allInTime(list [][]int, starts []int) bool {
 	return true
 }
 
-// inTime writes down the starts of one route. The route ends at the depot, so the time at its end is when the van is back.
-func (a *Area) inTime(route []int, starts []int) bool {
+// inTime tells whether a van that goes along the sites is nowhere late, and writes down the starts. It is at the first site at 0: the depot is left then, and at a stop, where a piece of a route may begin, the start is From, which no van is ahead of.
+func (a *Area) inTime(sites []int, starts []int) bool {
 	time := 0
-	for k := 1; k < len(route); k++ {
-		site := route[k]
-		time += a.far[route[k-1]][site]
+	for k := 0; k < len(sites); k++ {
+		site := sites[k]
+		if k > 0 {
+			time += a.far[sites[k-1]][site]
+		}
 		if site == depot {
-			break
+			if time > a.x.Close {
+				return false
+			}
+			continue
 		}
 		stop := a.x.Stops[site-1]
 		if time < stop.From {
@@ -83,7 +88,7 @@ func (a *Area) inTime(route []int, starts []int) bool {
 		starts[site-1] = time
 		time += stop.Stay
 	}
-	return time <= a.x.Close
+	return true
 }
 
 // length is the sum of all ways gone.

@@ -65,7 +65,28 @@ func TestEmptyArea(t *testing.T) {
 			t.Errorf("Improve(%q) = %q, %d, %d", c.plan, plan, cost, fault)
 		}
 	}
+	for _, x := range []api.Instance{{}, {Vans: 1, Nodes: 1, Stops: []api.Stop{{Node: 1}}}, {Vans: 9, Nodes: 2, Stops: make([]api.Stop, 8)}} {
+		a := Of(x)
+		if _, _, fault := a.Judge("1"); fault != api.ErrPlan || a.Blocked([]int{0}) || a.Blocked([]int{1, 1}) {
+			t.Errorf("Of(%+v) has stops: %d", x, fault)
+		}
+	}
 	if _, fault := Open("x"); fault != api.ErrForm {
 		t.Errorf("Open = %d", fault)
+	}
+}
+
+// What is no chain is not blocked, and does not panic.
+func TestBlockedOfWhatIsNoChain(t *testing.T) {
+	a := Of(api.Instance{Vans: 1, Nodes: 1, Stops: []api.Stop{{Want: 1}, {Want: 1}}})
+	for _, list := range [][]int{nil, {}, {-1}, {3}, {1, 3}, {-1, 1}, {1 << 62}, {-1 << 63}, {1, 0, 2}, {0, 0, 1}, {1, 0, 0}, {0, 1, 0, 1, 0}} {
+		if a.Blocked(list) {
+			t.Errorf("Blocked(%v)", list)
+		}
+	}
+	for _, list := range [][]int{{1}, {2}, {1, 1}, {0, 1}, {1, 0}, {0, 2, 0}, {0, 1, 2, 1, 2, 1, 2, 1, 2, 1, 2, 0}} {
+		if !a.Blocked(list) {
+			t.Errorf("not Blocked(%v)", list)
+		}
 	}
 }
