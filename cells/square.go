@@ -4,7 +4,7 @@ import "depot/api"
 
 // Square makes each row by itself: rows of one list would share what is written into them, and the rows of the vans are alike.
 func (a *Arcs) Square() [][]int {
-	sites := a.lineSites()
+	sites := a.LineSites()
 	rows := make([][]int, len(sites))
 	for i := 0; i < len(sites); i++ {
 		row := make([]int, len(sites))
@@ -16,8 +16,8 @@ func (a *Arcs) Square() [][]int {
 	return rows
 }
 
-// lineSites tells the site of each row, which is that of each column too: the stops, and the depot once for each van.
-func (a *Arcs) lineSites() []int {
+// LineSites tells the site of each row, which is that of each column too: the stops, and the depot once for each van.
+func (a *Arcs) LineSites() []int {
 	var list []int
 	for stop := 1; stop < len(a.far); stop++ {
 		list = append(list, stop)

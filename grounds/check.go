@@ -3,8 +3,8 @@ package grounds
 
 import (
 	"depot/api"
-	"depot/cells"
 	"depot/instance"
+	"depot/places"
 	"depot/rounds"
 	"depot/trees"
 )
@@ -16,8 +16,8 @@ func Check(text string, claim string, tree string) (int, api.Errno) {
 		return 0, fault
 	}
 	area := rounds.Of(x)
-	arcs := cells.Open(x)
-	w := &walk{area: area, arcs: arcs}
+	root := places.Root(x)
+	w := &walk{area: area, place: root}
 	fault = w.take(claim)
 	if fault != api.OK {
 		return 0, fault

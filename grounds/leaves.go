@@ -19,7 +19,7 @@ func (w *walk) leafHolds(n api.Node) bool {
 
 // dualsHold tells whether no choice of open cells costs less than the plan: it costs at least all the numbers together, for each row and each column is in it once.
 func (w *walk) dualsHold(list []int) bool {
-	rows := w.arcs.Square()
+	rows := w.place.Arcs.Square()
 	side := len(rows)
 	if !w.plan || len(list) != 2*side || sum(list) < w.cost {
 		return false
@@ -44,7 +44,7 @@ func sum(list []int) int {
 
 // hallHolds tells whether the rows of the list have too few columns to get one each.
 func (w *walk) hallHolds(list []int) bool {
-	rows := w.arcs.Square()
+	rows := w.place.Arcs.Square()
 	for i := 0; i < len(list); i++ {
 		if list[i] < 0 || list[i] >= len(rows) {
 			return false
@@ -75,7 +75,7 @@ func opens(rows [][]int, list []int, column int) bool {
 // chainHolds tells whether some van has to go along the sites of the list, and none can.
 func (w *walk) chainHolds(list []int) bool {
 	for i := 1; i < len(list); i++ {
-		if w.arcs.Said(list[i-1], list[i]) != cells.Forced {
+		if w.place.Arcs.Said(list[i-1], list[i]) != cells.Forced {
 			return false
 		}
 	}
